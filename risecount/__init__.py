@@ -1,0 +1,1 @@
+"""Risecount: numbers on orders that only rise."""

@@ -1,0 +1,128 @@
+"""What all tests share: asking twice, refusals of one class, and orders made without the program."""
+
+import itertools
+import random
+
+from risecount import errors
+
+REFUSALS = (
+    "NoThing", "Looped", "NoOrder", "NoNumber", "TooGreat", "NoGoing", "NoRow",
+    "NoFilling", "NotLoose", "NotForest", "NoShape", "NoName", "NoLine",
+)
+HUGE = 10 ** 599 + 7
+FAR_NUMBERS = (HUGE, -HUGE, 10 ** 600 - 1, 1 - 10 ** 600)
+
+
+def is_plain(value):
+    """Whether a value is made of whole numbers, texts, truths, None and tuples alone."""
+    if type(value) is tuple:
+        return all(is_plain(item) for item in value)
+    return value is None or type(value) in (int, str, bool)
+
+
+def same(one, other):
+    """Equal, and of the same kinds throughout: so that 1 does not pass for True."""
+    if type(one) is not type(other):
+        return False
+    if type(one) is tuple:
+        return len(one) == len(other) and all(same(a, b) for a, b in zip(one, other))
+    return one == other
+
+
+def told(case, call, *given):
+    """What is told, asked twice, seen to be plain and the same both times."""
+    first = call(*given)
+    case.assertTrue(is_plain(first), (call.__name__, given, first))
+    case.assertTrue(same(first, call(*given)), (call.__name__, given))
+    return first
+
+
+def check(case, wanted, call, *given):
+    answer = told(case, call, *given)
+    case.assertTrue(same(wanted, answer), (call.__name__, given, wanted, answer))
+
+
+def refused(case, name, call, *given):
+    """Seen is a refusal of the class named and of no other one but RiseError, and that twice."""
+    for asking in range(2):
+        try:
+            answer = call(*given)
+        except errors.RiseError as error:
+            case.assertIsInstance(error, ValueError)
+            held = [other for other in REFUSALS if isinstance(error, getattr(errors, other))]
+            case.assertEqual(held, [name], (call.__name__, given))
+        else:
+            case.fail(f"{call.__name__}{given!r} told {answer!r}, {name} was due")
+
+
+def rows_from(n, pairs):
+    """The rows of n things for a closed collection of pairs."""
+    return tuple(tuple(a for a in range(n) if (a, b) in pairs) for b in range(n))
+
+
+def closure(n, pairs):
+    """All pairs that follow from some, by going on until nothing new comes."""
+    held = set(pairs)
+    while True:
+        more = {(a, d) for a, b in held for c, d in held if b == c} - held
+        if not more:
+            return held
+        held |= more
+
+
+def pairs_from(order):
+    return {(a, b) for b, row in enumerate(order) for a in row}
+
+
+def is_closed(pairs):
+    if any(a == b for a, b in pairs):
+        return False
+    return all((a, d) in pairs for a, b in pairs for c, d in pairs if b == c)
+
+
+def all_orders(n):
+    """Every order of n things, out of all choices of pairs; for n up to 4."""
+    unlike = [(a, b) for a in range(n) for b in range(n) if a != b]
+    orders = []
+    for chosen in itertools.product((False, True), repeat=len(unlike)):
+        pairs = {pair for pair, taken in zip(unlike, chosen) if taken}
+        if is_closed(pairs):
+            orders.append(rows_from(n, pairs))
+    return orders
+
+
+SMALL_ORDERS = tuple(order for n in range(5) for order in all_orders(n))
+
+
+def order_by_chance(n, share, chance):
+    """An order of n things whose ties go by a mixed row of them, so not by their numbers."""
+    names = list(range(n))
+    chance.shuffle(names)
+    pairs = {pair for pair in itertools.combinations(names, 2) if chance.random() < share}
+    return rows_from(n, closure(n, pairs))
+
+
+def greater_orders(seed, sizes=(5, 6, 7, 8, 9), shares=(0.1, 0.25, 0.5, 0.9)):
+    chance = random.Random(seed)
+    return tuple(order_by_chance(n, share, chance) for n in sizes for share in shares)
+
+
+def loose_order(n):
+    return ((),) * n
+
+
+def chain_order(names):
+    """Each thing of the row of names under all that stand behind it."""
+    rows = [()] * len(names)
+    for place, name in enumerate(names):
+        rows[name] = tuple(sorted(names[:place]))
+    return tuple(rows)
+
+
+def goings_by_trying(order):
+    """All goings, sorted, out of all rows of the things; for small orders."""
+    pairs = pairs_from(order)
+    return [
+        tried for tried in itertools.permutations(range(len(order)))
+        if all(tried.index(a) < tried.index(b) for a, b in pairs)
+    ]
