@@ -21,9 +21,13 @@ def tie_rises(filling, a, b):
     return filling[a] <= filling[b]
 
 
-def count_plain(order, k):
+def refuse_below_0(k):
     if k < 0:
         raise NoNumber("k is below 0")
+
+
+def count_plain(order, k):
+    refuse_below_0(k)
     many = tuples_many(len(order), k)
     if many > MOST_TUPLES:
         raise TooGreat("too many tuples to go through")

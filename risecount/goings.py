@@ -98,36 +98,35 @@ def descents_of(going):
 
 
 def shares_by_descents(order):
-    many = max(len(order), 1)
-    # Where no thing stands yet 0 is kept as the last one: nothing is less, so no descent follows it.
-    begun = {((), 0): [1] + [0] * (many - 1)}
-    for step in range(len(order)):
-        begun = shares_one_step_on(order, begun)
-    shares = [0] * many
-    for some in begun.values():
-        shares = added(shares, some)
-    return tuple(shares)
+    return tuple(shares_on(order)[((), 0)])
 
 
-def shares_one_step_on(order, begun):
-    """How many beginnings there are by their descents, for one thing more.
+def shares_on(order):
+    """By the things ahead, rising, and the last of them: how many ways on have 0, 1, .. further descents.
 
-    How a beginning goes on hangs only on which things stand in it and which one stands last,
-    so all that agree in both are kept together.
+    How one can go on hangs only on these two, so all beginnings that agree in both are counted together.
+    Where no thing stands yet 0 is kept as the last one: nothing is less, so no descent follows it.
     """
-    longer = {}
-    for state, shares in begun.items():
-        ahead = state[0]
-        last = state[1]
+    shares = {}
+    find_shares(order, (), 0, shares)
+    return shares
+
+
+def find_shares(order, ahead, last, shares):
+    state = (ahead, last)
+    if state not in shares:
+        some = [0] * max(len(order), 1)
+        if len(ahead) == len(order):
+            some[0] = 1
         for thing in ready_things(order, ahead):
-            reached = (joined(ahead, thing), thing)
-            some = one_descent_more(shares) if last > thing else shares
-            longer[reached] = added(longer[reached], some) if reached in longer else some
-    return longer
+            further = find_shares(order, joined(ahead, thing), thing, shares)
+            some = added(some, one_descent_more(further) if last > thing else further)
+        shares[state] = some
+    return shares[state]
 
 
 def one_descent_more(shares):
-    # Nothing is lost at the end: what can still go on has fewer descents than the last share tells.
+    # Nothing is lost at the end: behind two things there are fewer descents than the last share tells.
     return [0] + shares[:-1]
 
 

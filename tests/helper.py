@@ -10,6 +10,7 @@ REFUSALS = (
     "NoFilling", "NotLoose", "NotForest", "NoShape", "NoName", "NoLine",
 )
 HUGE = 10 ** 599 + 7
+K_60 = 10 ** 60 - 1
 FAR_NUMBERS = (HUGE, -HUGE, 10 ** 600 - 1, 1 - 10 ** 600)
 
 
@@ -126,3 +127,28 @@ def goings_by_trying(order):
         tried for tried in itertools.permutations(range(len(order)))
         if all(tried.index(a) < tried.index(b) for a, b in pairs)
     ]
+
+
+def rises_by_words(order, filling, k):
+    if len(filling) != len(order) or k < 0 or any(number < 1 or number > k for number in filling):
+        return False
+    return all(filling[a] < filling[b] if a > b else filling[a] <= filling[b] for a, b in pairs_from(order))
+
+
+def fillings_by_trying(order, k):
+    """All fillings by k that rise, as tuples are ordered, out of all tuples; for small orders and k."""
+    tried = itertools.product(range(1, k + 1), repeat=len(order))
+    return [filling for filling in tried if rises_by_words(order, filling, k)]
+
+
+def count_by_trying(order, k):
+    return len(fillings_by_trying(order, k))
+
+
+def is_row_by_words(going, row, k):
+    if len(row) != len(going) or any(not 1 <= number <= k for number in row):
+        return False
+    return all(
+        row[i] < row[i + 1] if going[i] > going[i + 1] else row[i] <= row[i + 1]
+        for i in range(len(row) - 1)
+    )

@@ -4,18 +4,11 @@ import unittest
 
 from risecount.fillings import count_plain, rises
 from tests.helper import (
-    FAR_NUMBERS, HUGE, SMALL_ORDERS, chain_order, check, greater_orders, loose_order, pairs_from, refused,
+    FAR_NUMBERS, HUGE, K_60, SMALL_ORDERS, chain_order, check, greater_orders, loose_order, refused, rises_by_words,
 )
 
 PLAIN = ((), (0,))
 STRICT = ((1,), ())
-K_60 = 10 ** 60 - 1
-
-
-def rises_by_words(order, filling, k):
-    if len(filling) != len(order) or k < 0 or any(number < 1 or number > k for number in filling):
-        return False
-    return all(filling[a] < filling[b] if a > b else filling[a] <= filling[b] for a, b in pairs_from(order))
 
 
 class RisesTest(unittest.TestCase):

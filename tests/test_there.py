@@ -6,17 +6,8 @@ from risecount.fillings import rises
 from risecount.goings import descents_of, going_at, goings_many
 from risecount.there import filling_of, going_of, row_of
 from tests.helper import (
-    FAR_NUMBERS, HUGE, SMALL_ORDERS, check, goings_by_trying, greater_orders, told,
+    FAR_NUMBERS, HUGE, SMALL_ORDERS, check, goings_by_trying, greater_orders, is_row_by_words, told,
 )
-
-
-def is_row_by_words(going, row, k):
-    if len(row) != len(going) or any(not 1 <= number <= k for number in row):
-        return False
-    return all(
-        row[i] < row[i + 1] if going[i] > going[i + 1] else row[i] <= row[i + 1]
-        for i in range(len(row) - 1)
-    )
 
 
 class GoingAndRowTest(unittest.TestCase):
