@@ -1,6 +1,7 @@
 """What all tests share: asking twice, refusals of one class, and orders made without the program."""
 
 import itertools
+import math
 import random
 
 from risecount import errors
@@ -152,3 +153,31 @@ def is_row_by_words(going, row, k):
         row[i] < row[i + 1] if going[i] > going[i + 1] else row[i] <= row[i + 1]
         for i in range(len(row) - 1)
     )
+
+
+def downsets_by_trying(order):
+    """All downsets, sorted by how many things they have, out of all rising tuples of things."""
+    pairs = pairs_from(order)
+    tried = [things for size in range(len(order) + 1) for things in itertools.combinations(range(len(order)), size)]
+    return [things for things in tried if all(a in things for a, b in pairs if b in things)]
+
+
+def is_calm_by_words(order, things):
+    return not any(a > b and a in things and b in things for a, b in pairs_from(order))
+
+
+def loose_by_words(order):
+    pairs = pairs_from(order)
+    both = itertools.combinations(range(len(order)), 2)
+    return tuple((a, b) for a, b in both if (a, b) not in pairs and (b, a) not in pairs)
+
+
+def put_by_words(order, a, b):
+    return rows_from(len(order), closure(len(order), pairs_from(order) | {(a, b)}))
+
+
+def chosen_by_words(x, m):
+    product = math.prod(x - step for step in range(m))
+    whole, rest = divmod(product, math.factorial(m))
+    assert rest == 0
+    return whole

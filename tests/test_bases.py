@@ -1,19 +1,15 @@
-import math
 import random
 import unittest
 
 from risecount.bases import descents_from, steps_of, value_of_descents, value_of_steps
 from risecount.goings import shares_by_descents
 from tests.helper import (
-    FAR_NUMBERS, HUGE, K_60, SMALL_ORDERS, check, count_by_trying, fillings_by_trying, greater_orders, told,
+    FAR_NUMBERS, HUGE, K_60, SMALL_ORDERS, check, chosen_by_words, count_by_trying, fillings_by_trying,
+    greater_orders, told,
 )
 
 KS = tuple(range(-12, 13)) + (K_60, -K_60, 10 ** 59 + 1, -(10 ** 59) - 1)
 NOUGHTS = (0,) * 9
-
-
-def chosen_by_words(x, m):
-    return math.prod(x - step for step in range(m)) // math.factorial(m)
 
 
 def sum_by_descents(shares, k):

@@ -163,7 +163,8 @@ class RefusedFillingsTest(unittest.TestCase):
                 refused(self, "NoFilling", filling_number, order, k, ())
                 for wrong in (0, -1, k + 1) + FAR_NUMBERS:
                     for place in (0, len(order) - 1):
-                        refused(self, "NoFilling", filling_number, order, k, filling[:place] + (wrong,) + filling[place + 1:])
+                        tried = filling[:place] + (wrong,) + filling[place + 1:]
+                        refused(self, "NoFilling", filling_number, order, k, tried)
 
     def test_ties_are_kept(self):
         refused(self, "NoFilling", filling_number, ((1,), ()), K_60, (K_60, K_60))

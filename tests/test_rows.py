@@ -4,7 +4,7 @@ import random
 import unittest
 
 from risecount.rows import row_at, row_number, rows_many
-from tests.helper import FAR_NUMBERS, HUGE, K_60, check, is_row_by_words, refused, told
+from tests.helper import FAR_NUMBERS, HUGE, K_60, check, chosen_by_words, is_row_by_words, refused, told
 
 RISING = tuple(range(9))
 FALLING = tuple(range(8, -1, -1))
@@ -91,7 +91,8 @@ class RowsToldTest(unittest.TestCase):
     def test_how_many(self):
         for going in some_goings(64):
             for k in (0, 1, 2, 3, 8, 9, 10, 20) + great_ks(65):
-                check(self, math.comb(k + len(going) - 1 - falls(going), len(going)) if going else 1, rows_many, going, k)
+                wanted = chosen_by_words(k + len(going) - 1 - falls(going), len(going))
+                check(self, wanted, rows_many, going, k)
 
     def test_known_numbers(self):
         check(self, math.comb(10 ** 6 + 7, 9), rows_many, RISING, SIX_NINES)
