@@ -5,8 +5,12 @@ from risecount.errors import Looped, NoThing
 MOST_THINGS = 9
 
 
+def are_too_many(n):
+    return n > MOST_THINGS
+
+
 def is_order(rows):
-    if len(rows) > MOST_THINGS:
+    if are_too_many(len(rows)):
         return False
     return all([is_row(rows, thing) for thing in range(len(rows))])
 

@@ -12,6 +12,7 @@ REFUSALS = (
 )
 HUGE = 10 ** 599 + 7
 K_60 = 10 ** 60 - 1
+FAR_KS = (K_60, -K_60, 10 ** 59, -(10 ** 59), 123456789 ** 6, -(987654321 ** 6))
 FAR_NUMBERS = (HUGE, -HUGE, 10 ** 600 - 1, 1 - 10 ** 600)
 
 
@@ -174,6 +175,15 @@ def loose_by_words(order):
 
 def put_by_words(order, a, b):
     return rows_from(len(order), closure(len(order), pairs_from(order) | {(a, b)}))
+
+
+def names_turned_by_words(order):
+    last = len(order) - 1
+    return rows_from(len(order), {(last - a, last - b) for a, b in pairs_from(order)})
+
+
+def upside_down_by_words(order):
+    return rows_from(len(order), {(b, a) for a, b in pairs_from(order)})
 
 
 def chosen_by_words(x, m):

@@ -6,20 +6,14 @@ import unittest
 from risecount.counts import chosen, count_at, pieces_many, polynomial, shares_by_steps
 from risecount.goings import goings_many, shares_by_descents
 from tests.helper import (
-    K_60, SMALL_ORDERS, chain_order, check, chosen_by_words, closure, count_by_trying, fillings_by_trying,
-    goings_by_trying, greater_orders, loose_order, pairs_from, rows_from, told,
+    FAR_KS, SMALL_ORDERS, chain_order, check, chosen_by_words, closure, count_by_trying, fillings_by_trying,
+    goings_by_trying, greater_orders, loose_order, names_turned_by_words, pairs_from, rows_from, told,
 )
 
 MIDDLE_ORDERS = greater_orders(91, sizes=(5, 6))
 GREAT_ORDERS = greater_orders(92) + (loose_order(9), chain_order((3, 8, 1, 0, 7, 2, 6, 5, 4)))
 ORDERS = SMALL_ORDERS + MIDDLE_ORDERS + GREAT_ORDERS
-FAR_KS = (K_60, -K_60, 10 ** 59, -(10 ** 59), 123456789 ** 6, -(987654321 ** 6))
 NEAR_KS = tuple(range(-12, 13))
-
-
-def names_turned_by_words(order):
-    last = len(order) - 1
-    return rows_from(len(order), {(last - a, last - b) for a, b in pairs_from(order)})
 
 
 def value_at(factors, k):
