@@ -34,7 +34,8 @@ def forest_by_chance(n, loose, chance):
 
 def forests_by_chance(seed):
     chance = random.Random(seed)
-    return tuple(forest_by_chance(n, loose, chance) for n in range(10) for loose in (0, 0.1, 0.3, 0.6) for turn in "123")
+    shares = (0, 0.1, 0.3, 0.6) * 3
+    return tuple(forest_by_chance(n, loose, chance) for n in range(10) for loose in shares)
 
 
 FORESTS = forests_by_chance(171)

@@ -87,6 +87,47 @@ def set_stands_well(node, above):
     return isinstance(upper, ast.Compare) or is_call_of(upper, ("sorted", "len")) and not upper.keywords
 
 
+def methods_in(tree):
+    classes = [node for node in tree.body if isinstance(node, ast.ClassDef)]
+    return [inner.name for node in classes for inner in node.body if isinstance(inner, ast.FunctionDef)]
+
+
+def values_in(tree):
+    """What is set on an object in its own methods."""
+    attributes = [node for node in ast.walk(tree) if isinstance(node, ast.Attribute)]
+    return [node.attr for node in attributes if isinstance(node.ctx, ast.Store)]
+
+
+def package_trees():
+    return [ast.parse(path.read_text(encoding="utf-8")) for path in sorted(PACKAGE.glob("*.py"))]
+
+
+def own_methods():
+    return [name for tree in package_trees() for name in methods_in(tree)]
+
+
+def class_faults(node):
+    found = []
+    if len(node.bases) > 1 or node.decorator_list or node.keywords:
+        found.append(f"L5 {node.name}")
+    for inner in node.body:
+        if not isinstance(inner, ast.FunctionDef) and not is_written_text(inner):
+            found.append(f"L5 {node.name} holds a value")
+    names = [inner.name for inner in node.body if isinstance(inner, ast.FunctionDef)]
+    found += [f"L18 {name} twice" for name in names if names.count(name) > 1]
+    found += [f"L5 {name}" for name in names if name.startswith("_") and name != "__init__"]
+    found += [f"L26 {name}" for name in names if not name.startswith("_") and is_pythons_own(name)]
+    return found
+
+
+def is_written_text(node):
+    return isinstance(node, ast.Expr) and isinstance(node.value, ast.Constant) and isinstance(node.value.value, str)
+
+
+def is_pythons_own(name):
+    return any(hasattr(kind, name) for kind in (str, int, list, tuple, dict, set, bytes))
+
+
 def call_faults(node, above, own):
     found = []
     if isinstance(node.func, ast.Name):
@@ -99,7 +140,7 @@ def call_faults(node, above, own):
         if name in ("set", "frozenset") and not set_stands_well(node, above):
             found.append(f"L24 {name}")
     elif isinstance(node.func, ast.Attribute):
-        if node.func.attr not in METHODS:
+        if node.func.attr not in METHODS and node.func.attr not in own_methods():
             found.append(f"L25 {node.func.attr}")
         if node.func.attr in ("items", "keys", "values") and not walked_on_the_spot(node, above):
             found.append(f"L23 {node.func.attr}")
@@ -147,9 +188,8 @@ def statement_faults(node):
         for handler in node.handlers:
             if handler.type is None or getattr(handler.type, "id", "") in ("Exception", "TypeError"):
                 found.append("L19 except")
-    if isinstance(node, ast.Expr) and not isinstance(node.value, ast.Call):
-        if not (isinstance(node.value, ast.Constant) and isinstance(node.value.value, str)):
-            found.append("L6 expression")
+    if isinstance(node, ast.Expr) and not isinstance(node.value, ast.Call) and not is_written_text(node):
+        found.append("L6 expression")
     return found
 
 
@@ -242,8 +282,8 @@ def faults(text):
             found += statement_faults(node)
         if isinstance(node, ast.FunctionDef):
             found += def_faults(node)
-        if isinstance(node, ast.ClassDef) and (len(node.bases) > 1 or node.decorator_list or node.keywords):
-            found.append(f"L5 {node.name}")
+        if isinstance(node, ast.ClassDef):
+            found += class_faults(node)
         if isinstance(node, ast.expr):
             if not isinstance(node, EXPRESSIONS):
                 found.append(f"L7 {node.__class__.__name__}")
@@ -290,6 +330,11 @@ class FormTest(unittest.TestCase):
                     for alias in node.names:
                         self.assertIn(alias.name, made)
 
+    def test_no_name_is_a_method_here_and_a_value_there(self):
+        values = [name for tree in package_trees() for name in values_in(tree)]
+        self.assertEqual(sorted(set(values) & set(own_methods())), [])
+        self.assertEqual([name for name in values if is_pythons_own(name)], [])
+
     def test_the_walk_sees_what_is_out(self):
         for text in (
             "import random\n", "from random import choice\n", "x = 1 / 2\n", "x = 1.5\n", "x = {1, 2}\n",
@@ -301,7 +346,12 @@ class FormTest(unittest.TestCase):
             "def f(n):\n    return n is 3\n", "def f(_):\n    return 1\n", "# a type\n", "x = '\u00e4'\n",
             "def f(n):\n    return f'{n + 1}'\n", "def f(n):\n    return map(str, n)\n", "x = '%'\n",
             "def f(n):\n    try:\n        n()\n    except Exception:\n        pass\n", "def f(n: int):\n    pass\n",
-            "def f(n):\n    for a in n:\n        pass\n    else:\n        pass\n", "x = len\n", "x = 1\ndef f(x):\n    pass\n",
+            "def f(n):\n    for a in n:\n        pass\n    else:\n        pass\n", "x = len\n",
+            "x = 1\ndef f(x):\n    pass\n",
+            "class A:\n    x = 1\n", "class A:\n    def sort(self):\n        pass\n", "def f(n):\n    n.casefold()\n",
+            "class A:\n    def f(self):\n        pass\n    def f(self):\n        pass\n",
+            "class A:\n    def __hash__(self):\n        return 1\n", "class A(B, C):\n    ''\n",
+            "def f(n):\n    return [a for a in reversed(range(n))]\n",
         ):
             self.assertNotEqual(faults(text), [], text)
 
